@@ -1,0 +1,1 @@
+"""Ownchute: parcels on belts and what a tracker believes about them."""
