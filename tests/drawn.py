@@ -3,6 +3,11 @@
 import itertools
 import random
 
+from ownchute.lines import Line
+from ownchute.plants import Plant
+from ownchute.trackers import Tracker
+from tests.model import Model
+
 
 def nested(depth):
     """Return a value in tuples and lists by turns, so many deep."""
@@ -66,11 +71,60 @@ def subsets(items):
     return [part for many in range(len(items) + 1) for part in itertools.combinations(items, many)]
 
 
+def drawn_line(source, many):
+    """Return a drawn line with so many belts."""
+    return Line(*[source.randint(1, 3) for _ in range(many)],
+                scans=source.choice(subsets(range(1, many))),
+                slips=(source.choice((0, 1, 1, 2, 2, 3)), source.randint(1, 6)),
+                words=source.choice(subsets(("missed", "twice", "swapped"))),
+                stretch=source.choice((None, None, 1, 2, 3, 5, 12)))
+
+
+def drawn_tracker(source, many):
+    """Return a drawn tracker with so many rooms."""
+    return Tracker(*[source.randint(1, 4) for _ in range(many)],
+                   seek=source.randint(0, 3),
+                   empty=source.choice(("blank", "none")),
+                   strange=source.choice(("first", "none")),
+                   pause=source.choice(("clear", "keep")))
+
+
+def drawn_plant(source, many):
+    """Return a drawn plant with so many belts."""
+    return Plant(drawn_line(source, many), drawn_tracker(source, many))
+
+
+def drawn_plants(seed, many):
+    """Return so many drawn plants, with one, two and three belts by turns."""
+    source = random.Random(seed)
+    return [drawn_plant(source, 1 + turn % 3) for turn in range(many)]
+
+
+def drawn_flow(source, plant, many):
+    """Return a drawn flow of so many deeds."""
+    model = Model(plant)
+    for _ in range(many):
+        model.do(drawn_deed(source, model))
+    return model.flow
+
+
+def drawn_deed(source, model):
+    """Return a deed that is possible; slips and deeds without slips are about as frequent."""
+    deeds = model.deeds()
+    plain = [deed for deed in deeds if deed[-1] == "once"]
+    return source.choice(plain if plain and source.random() < 0.4 else deeds)
+
+
+ATTRIBUTES = {"InvalidField": "name", "InvalidText": "at", "InvalidDeed": "at", "NotNow": "at", "InvalidOffer": "at",
+              "TooMany": "most", "NothingLeft": None}
+
+
 def assert_refused(case, error, value, call, *given, **named):
     """Check that the call raises just this error, with just this value."""
     with case.assertRaises(error) as caught:
         call(*given, **named)
     case.assertIs(type(caught.exception), error)
     case.assertEqual(caught.exception.code, error.__name__)
-    attribute = "name" if error.__name__ == "InvalidField" else "given"
-    case.assertEqual(shown(getattr(caught.exception, attribute)), shown(value))
+    attribute = ATTRIBUTES.get(error.__name__, "given")
+    if attribute is not None:
+        case.assertEqual(shown(getattr(caught.exception, attribute)), shown(value))
