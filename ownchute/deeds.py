@@ -17,6 +17,11 @@ def is_deed(plant, value):
     return value == ("pause",)
 
 
+def is_plain(deed):
+    """Tell whether a deed has no sight other than `once`."""
+    return deed == ("pause",) or deed[-1] == "once"
+
+
 def check_deeds(plant, values):
     """Refuse the first value that is no deed for the plant."""
     for at, value in enumerate(values):

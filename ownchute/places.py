@@ -2,7 +2,7 @@
 
 from ownchute.checks import check_number
 from ownchute.deeds import all_deeds, check_deeds
-from ownchute.errors import NotNow, TooMany
+from ownchute.errors import InvalidDeed, NotNow, TooMany
 from ownchute.kinds import is_number
 from ownchute.scenes import BLANK, NO_SWAP, first_scene, is_possible, most_comings, moved, renumbered
 
@@ -63,14 +63,24 @@ def deeds_at(plant, place):
 
 def behind(plant, place, deed):
     """Return the pair of the place behind a possible deed and its word, or None for it."""
+    there, code, found = stepped(plant, place, deed)
+    if deed[:2] != ("pass", plant.line.last):
+        return there, None
+    return there, word_of_sending(code, found)
+
+
+def stepped(plant, place, deed):
+    """Return the place behind a possible deed, the code that its parcel had, and the first record that moves on.
+
+    Numbers below the codes stand for themselves, so that a record can be marked.
+    """
     if deed[0] == "come":
         place = renumbered(place, older)
     code = code_of_parcel(place, deed)
-    place, found = moved(plant, place, deed, code)
-    if deed[:2] != ("pass", plant.line.last):
-        return place, None
-    left = renumbered(place, lambda number: GONE if number == code else number)
-    return left, word_of_sending(code, found)
+    there, found = moved(plant, place, deed, code)
+    if deed[:2] == ("pass", plant.line.last):
+        there = renumbered(there, lambda number: GONE if number == code else number)
+    return there, code, found
 
 
 def older(code):
@@ -132,6 +142,14 @@ def followed(plant, flow):
         places.append(place)
         words.append(word)
     return places, words
+
+
+def tried(plant, flow):
+    """Return what followed returns, or two empty lists for a list of any values that is no flow."""
+    try:
+        return followed(plant, flow)
+    except (InvalidDeed, NotNow):
+        return [], []
 
 
 def met_places(plant, *, most=5000):
