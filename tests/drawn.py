@@ -116,7 +116,8 @@ def drawn_deed(source, model):
 
 
 ATTRIBUTES = {"InvalidField": "name", "InvalidText": "at", "InvalidDeed": "at", "NotNow": "at", "InvalidOffer": "at",
-              "TooMany": "most", "NothingLeft": None}
+              "TooMany": "most", "NothingLeft": None, "Unlike": None, "DuplicateName": "name", "UnknownName": "name",
+              "Full": "most", "InvalidCommand": "at", "InvalidPage": "at"}
 
 
 def assert_refused(case, error, value, call, *given, **named):
