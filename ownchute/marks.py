@@ -59,7 +59,10 @@ class Marks:
 
 
 def marked_places(place):
-    """Return the list of the place with a mark for each one of its records of parcels that have left."""
+    """Return the list of the place with a mark for each one of the records of parcels that have left in its queues.
+
+    A label with which a swap is open comes into a queue before another parcel leaves.
+    """
     counts, queues, swap, slips, comings = place
     found = []
     for belt, queue in enumerate(queues):
@@ -67,8 +70,6 @@ def marked_places(place):
             if code == GONE:
                 marked = replaced(queues, belt, replaced(queue, at, MARK))
                 found.append((counts, marked, swap, slips, comings))
-    if swap == GONE:
-        found.append((counts, queues, MARK, slips, comings))
     return found
 
 

@@ -216,6 +216,11 @@ class GreatestStretch(unittest.TestCase):
             plant = Plant(Line(3, slips=(0, 1)), Tracker(room))
             self.assertEqual(greatest_stretch(plant), 12 if room == 3 else room)
 
+    def test_all_stretches_up_to_twelve_are_judged(self):
+        many = len(judged(RIGHT.with_offers(("stretch", 12))).places())
+        self.assertEqual(greatest_stretch(RIGHT, most=many), 12)
+        assert_refused(self, TooMany, many - 1, greatest_stretch, RIGHT, most=many - 1)
+
     def test_stretch_of_the_plant_does_not_matter(self):
         for stretch in (None, 1, 5, 12):
             plant = Plant(MISSED.line.changed(stretch=stretch), MISSED.tracker)

@@ -25,6 +25,14 @@ def slippery(plants):
             for at, plant in enumerate(plants)]
 
 
+def two_belts():
+    """Return plants with eyes alone in which records of parcels that have left can stay at either belt."""
+    lines = [Line(1, 1, slips=(2, 3), words=words, stretch=stretch)
+             for words in (["missed"], ["missed", "twice"]) for stretch in (None, 2)]
+    return [Plant(line, Tracker(first, second, pause=pause, empty=empty)) for line in lines for first in (1, 2)
+            for second in (1, 2) for pause in ("clear", "keep") for empty in ("none", "blank")]
+
+
 PLANTS = [graph.plant for graph in small_graphs(drawn_plants(141, 160) + slippery(drawn_plants(148, 80)), 120)]
 ONCE, OUT, LOST = ("come", "once"), ("pass", 1, "once"), ("pass", 1, "missed")
 ALL_SLIP = Plant.read("belts 1 slips 1 1 missed rooms 1 seek 0 none first keep")
@@ -73,6 +81,20 @@ class Lagged(unittest.TestCase):
         plant = Plant(Line(3, slips=(0, 1)), Tracker(1))
         self.assertLess(last_lag(plant, [ONCE, ONCE, OUT]), 0)
         self.assertEqual(lagged(plant).number, 0)
+
+    def test_records_that_stay_at_either_of_two_belts(self):
+        numbers = []
+        for plant in two_belts():
+            paper = lagged(plant)
+            self.assertIs(paper.holds(plant), True)
+            if isinstance(paper, Endless):
+                self.assertIs(endless_holds(plant, paper.flow(), paper.ring(), paper.rest()), True)
+                numbers.append(None)
+            else:
+                self.assertEqual(greatest_lag_up_to(plant, paper.number + 1), paper.number)
+                numbers.append(paper.number)
+        self.assertGreater(numbers.count(None), 20)
+        self.assertLess(numbers.count(None), len(numbers))
 
     def test_flows_of_runs_lag_no_more(self):
         source = random.Random(142)
@@ -205,6 +227,12 @@ class EndlessPapers(unittest.TestCase):
         self.assertIs(Endless([ONCE, LOST], ring, []).holds(ALL_SLIP), False)
         self.assertIs(Endless([], ring, [ONCE, OUT]).holds(ALL_SLIP), False)
         self.assertIs(Endless([ONCE], [OUT, ONCE], [OUT]).holds(ALL_SLIP), False)
+
+    def test_differences_that_are_not_equal(self):
+        plant = Plant.read("belts 1 slips 2 2 missed twice rooms 3 seek 0 none none keep")
+        ring = [("come", "twice"), OUT, ("come", "missed"), LOST]
+        self.assertEqual([last_lag(plant, ring * many + [ONCE, OUT] * 2) for many in range(3)], [0, 1, 3])
+        self.assertIs(self.check(plant, [], ring, [ONCE, OUT] * 2), False)
 
     def test_bent_papers(self):
         source, held = random.Random(146), 0

@@ -11,13 +11,20 @@ from ownchute.places import is_place, is_right, met_places, walked
 from ownchute.plants import Plant
 from ownchute.runs import Run
 from ownchute.trackers import Tracker
-from tests.bending import (KINDS, bent_flows, bent_places, cut, with_one_twice, with_two_exchanged, with_values,
+from tests.bending import (KINDS, bent_flows, bent_places, with_one_twice, with_two_exchanged, with_values,
                            without_one)
 from tests.drawn import ANY_VALUES, assert_refused, drawn_deed, drawn_flow, drawn_plants, shown
-from tests.model import Model, deeds_of, model_at, model_of_flow
+from tests.model import deeds_of, model_at, model_of_flow
 from tests.oracle import closed, is_height, mends_holds, never_holds, plain, small_graphs, steps_at
 
-GRAPHS = small_graphs(drawn_plants(121, 170), 130)
+
+
+def healing(plants):
+    """Return the plants with as much room for records as for parcels, so that further parcels push wrong ones out."""
+    return [Plant(plant.line, plant.tracker.changed(rooms=plant.line.belts())) for plant in plants]
+
+
+GRAPHS = small_graphs(drawn_plants(121, 140) + healing(drawn_plants(130, 70)), 130)
 ONCE, OUT = ("come", "once"), ("pass", 1, "once")
 SHORT = Plant(Line(2, words=[]), Tracker(1))
 CLEAR = Plant.read("belts 1 slips 1 2 missed stretch 2 rooms 2 seek 0 none first clear")
@@ -124,6 +131,13 @@ class Mended(unittest.TestCase):
     def test_literals(self):
         paper = mended(CLEAR)
         self.assertEqual((type(paper), paper.comings), (Mends, 1))
+        for rooms in ("belts 1 slips 1 4 missed rooms 1", "belts 1 slips 1 4 missed twice rooms 1"):
+            for pause in ("clear", "keep"):
+                plant = Plant.read(f"{rooms} seek 0 none first {pause}")
+                paper = mended(plant)
+                self.assertEqual((type(paper), paper.comings), (Mends, 1))
+                self.assertIs(paper.holds(plant), True)
+                self.assertEqual(paper.flow()[-1], ONCE)
         paper = mended(Plant(Line(1, slips=(0, 1)), Tracker(1)))
         self.assertEqual((paper.comings, paper.flow(), len(paper.rows())), (0, [], 3))
         self.assertIs(type(mended(SHORT)), Never)
